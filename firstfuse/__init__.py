@@ -1,0 +1,1 @@
+"""Firstfuse: which fuses of a tree can blow, and what stays lit."""
