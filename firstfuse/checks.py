@@ -15,3 +15,16 @@ def is_row(value, least, most):
 def is_pair(value):
     """Whether value is a tuple of two items."""
     return is_row(value, 2, 2)
+
+
+def are_unlike(value, count):
+    """Whether value is a tuple of indexes of count items, all unlike."""
+    if not is_row(value, 0, count):
+        return False
+    # The items are told to be integers first: others may be unfit for a set.
+    return all([is_integer(item, 0, count - 1) for item in value]) and len(set(value)) == len(value)
+
+
+def are_ascending(value, count):
+    """Whether value is an ascending tuple of indexes of count items."""
+    return are_unlike(value, count) and list(value) == sorted(value)

@@ -1,42 +1,15 @@
 """Promise [3], and [2] as far as it concerns boards."""
 
 import copy
-import itertools
 import unittest
 
 from firstfuse.boards import board_error, fuses_behind, lamps_behind, way_of
+from tests.plain import EXAMPLE, SHAPES, all_trees, chain, star
 
-EXAMPLE = (((-1, 6), (0, 4), (0, 5)), ((1, 3), (1, 2), (2, 4), (0, 1)))
 FIRST = (-1, 6)
 NO_TUPLES = (None, True, False, 0, -1, 10 ** 39, "", "ab", "(1, 2)", [], [1, 2], {}, {0: 1, 1: 2}, [(0, 1)])
 NO_PAIRS = NO_TUPLES + ((), (0,), (0, 1, 2), [0, 1], {0: 0, 1: 1}, ((0, 1),))
 NO_INTEGERS = (None, True, False, "", "0", (), (0,), [0], {0: 0})
-
-
-def chain(count):
-    """The fuses of a board each of whose fuses hangs on the one ahead."""
-    return tuple((index - 1, 9) for index in range(count))
-
-
-def star(count):
-    """The fuses of a board whose fuses hang all on the first one."""
-    return tuple((-1 if index == 0 else 0, 9) for index in range(count))
-
-
-def binary(count):
-    """The fuses of a board each of whose fuses has two fuses on it."""
-    return tuple(((index - 1) // 2, 9) for index in range(count))
-
-
-def mixed(count):
-    """The fuses of a board that is neither deep nor wide throughout."""
-    return tuple((index - 1 if index % 3 else index // 2 - (index == 0), 9) for index in range(count))
-
-
-def all_trees(count):
-    """The fuses of every board of so many fuses."""
-    for above in itertools.product(*[range(index) for index in range(1, count)]):
-        yield tuple((fuse, 9) for fuse in (-1,) + above)
 
 
 class BoardsThatAreBoards(unittest.TestCase):
@@ -52,7 +25,7 @@ class BoardsThatAreBoards(unittest.TestCase):
 
     def test_many_sizes(self):
         for count in range(1, 21):
-            for fuses in (chain(count), star(count), binary(count), mixed(count)):
+            for fuses in [shape(count) for shape in SHAPES]:
                 for lamp_count in (0, 1, 7, 29, 30):
                     self.check((fuses, tuple((lamp % count, 1 + lamp) for lamp in range(lamp_count))))
 
@@ -232,7 +205,7 @@ class TreesTest(unittest.TestCase):
 
     def test_mixed_trees(self):
         for count in range(1, 21):
-            for fuses in (chain(count), star(count), binary(count), mixed(count)):
+            for fuses in [shape(count) for shape in SHAPES]:
                 self.check((fuses, tuple((lamp * 7 % count, 1) for lamp in range(30))))
                 self.check((fuses, ()))
 

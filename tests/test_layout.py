@@ -27,6 +27,36 @@ INTERFACE = {
         "fuses_behind": ["board", "fuse"],
         "lamps_behind": ["board", "fuse"],
     },
+    "loads.py": {
+        "lit": ["board", "on", "blown"],
+        "load": ["board", "on", "blown", "fuse"],
+        "loads": ["board", "on", "blown"],
+        "strained": ["board", "on", "blown"],
+        "at_rest": ["board", "on", "blown"],
+    },
+    "coming.py": {
+        "can_come": ["board", "on", "value"],
+        "is_order": ["board", "on", "value"],
+        "order_for": ["board", "on", "blown"],
+        "bar_for": ["board", "on", "blown"],
+        "count_come": ["board", "on"],
+    },
+    "ends.py": {
+        "is_end": ["board", "on", "value"],
+        "count_ends": ["board", "on"],
+        "fewest_end": ["board", "on"],
+        "most_end": ["board", "on"],
+        "least_load": ["board", "on"],
+        "greatest_load": ["board", "on"],
+    },
+    "fates.py": {
+        "shown": ["board", "on", "bright", "dark"],
+        "fate": ["board", "on", "lamp"],
+        "fates": ["board", "on"],
+        "brightest": ["board", "on"],
+        "darkest": ["board", "on"],
+        "least_beside": ["board", "on", "fuse"],
+    },
 }
 
 
