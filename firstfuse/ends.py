@@ -88,13 +88,13 @@ def _blown_by_size(board, on):
 def best_ends(board, starts, blows):
     """A dict with an end for each number that an end can have.
 
-    The number is a sum over the parts of the tree. starts has for each fuse, left whole, a dict of
+    The number is a sum over the parts of the tree. starts is a list with, for each fuse left whole, a dict of
     its own number with what is drawn straight from it and (); blows has for each fuse a dict of
     numbers with fuses that can come, the fuse itself and others behind it.
     """
     fuses = board[0]
     # The less is drawn, the more is at rest above: so the choice with the least load is as good as any.
-    choices = [{number: choice for number, choice in start.items()} for start in starts] + [{0: (0, ())}]
+    choices = starts + [{0: (0, ())}]
     for fuse in range(len(fuses) - 1, -1, -1):
         above, mark = fuses[fuse]
         resting = {number: choice for number, choice in choices[fuse].items() if choice[0] <= mark}
