@@ -1,4 +1,7 @@
-"""Questions about values of any kind, which the other files share."""
+"""Questions about values of any kind, and about small boards, which the other files share."""
+
+from firstfuse.bounds import MAX_SMALL, MAX_SMALL_LAMPS
+from firstfuse.errors import TooGreat
 
 
 def is_integer(value, least, most):
@@ -28,3 +31,18 @@ def are_unlike(value, count):
 def are_ascending(value, count):
     """Whether value is an ascending tuple of indexes of count items."""
     return are_unlike(value, count) and list(value) == sorted(value)
+
+
+def demand_small(board):
+    """Raises TooGreat() for a board that is not small."""
+    fuses, lamps = board
+    if len(fuses) > MAX_SMALL or len(lamps) > MAX_SMALL_LAMPS:
+        raise TooGreat()
+
+
+def subsets(count):
+    """The list of all sets of count items: the shortest ones first, those of one length ascending."""
+    sets = [()]
+    for item in range(count):
+        sets = sets + [chosen + (item,) for chosen in sets]
+    return sorted(sets, key=lambda chosen: (len(chosen), chosen))

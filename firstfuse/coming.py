@@ -12,9 +12,12 @@ def can_come(board, on, value):
 
 def is_order(board, on, value):
     """Whether value is a tuple of fuses that can blow one after another in this order."""
-    if not are_unlike(value, len(board[0])):
-        return False
-    return all([fuse in strained(board, on, value[:index]) for index, fuse in enumerate(value)])
+    return are_unlike(value, len(board[0])) and can_follow(board, on, (), value)
+
+
+def can_follow(board, on, blown, row):
+    """Whether the fuses of the row can blow one after another in its order, the blown ones being blown before."""
+    return all([fuse in strained(board, on, blown + row[:index]) for index, fuse in enumerate(row)])
 
 
 def order_for(board, on, blown):

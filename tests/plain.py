@@ -5,6 +5,7 @@ import random
 
 EXAMPLE = (((-1, 6), (0, 4), (0, 5)), ((1, 3), (1, 2), (2, 4), (0, 1)))
 ALL_ON = (0, 1, 2, 3)
+STORY = (("on", 0), ("on", 2), ("pause",), ("on", 1), ("on", 3), ("pause",))
 
 # None of these is a tuple of fuses of a board with at most twenty of them.
 NO_FUSES = (
@@ -134,3 +135,136 @@ def beside(parts, mark):
         lamps.extend((fuse + first, draw) for fuse, draw in part_lamps)
         on.extend(lamp + first_lamp for lamp in part_on)
     return (tuple(fuses), tuple(lamps)), tuple(on)
+
+
+def some_story(source, board, count):
+    """So many deeds for the board; mostly lamps are put on, and if there are any, such as are not on."""
+    story = ()
+    every = tuple(range(len(board[1])))
+    for _ in range(count):
+        dark = tuple(lamp for lamp in every if lamp not in lamps_on(story))
+        word = source.choice(("on",) * 6 + ("off", "pause")) if every else "pause"
+        story += (("pause",),) if word == "pause" else ((word, source.choice((dark or every) if word == "on" else every)),)
+    return story
+
+
+def lamps_on(story):
+    """The lamps that are on behind the story."""
+    burning = set()
+    for deed in story:
+        if deed[0] == "on":
+            burning.add(deed[1])
+        elif deed[0] == "off":
+            burning.discard(deed[1])
+    return tuple(sorted(burning))
+
+
+def may_go_on(board, story, moment, blown):
+    """Whether with these fuses blown behind the deed of this moment the next deed may be done."""
+    return story[moment] != ("pause",) or not strained_fuses(board, lamps_on(story[:moment + 1]), blown)
+
+
+def all_runs(board, story):
+    """All runs of the story: each one is told by the moment at which each fuse blows, None if it does not."""
+    runs = {(None,) * len(board[0])}
+    for moment in range(len(story)):
+        on = lamps_on(story[:moment + 1])
+        queue = list(runs)
+        for run in queue:
+            blown = tuple(fuse for fuse, at in enumerate(run) if at is not None)
+            for fuse in strained_fuses(board, on, blown):
+                more = run[:fuse] + (moment,) + run[fuse + 1:]
+                if more not in runs:
+                    runs.add(more)
+                    queue.append(more)
+        runs = {
+            run for run in runs
+            if may_go_on(board, story, moment, tuple(fuse for fuse, at in enumerate(run) if at is not None))
+        }
+    return runs
+
+
+def all_blown(board, story):
+    """All sets of fuses that can have come by the story."""
+    sets = {()}
+    for moment in range(len(story)):
+        on = lamps_on(story[:moment + 1])
+        queue = list(sets)
+        for blown in queue:
+            for fuse in strained_fuses(board, on, blown):
+                more = tuple(sorted(blown + (fuse,)))
+                if more not in sets:
+                    sets.add(more)
+                    queue.append(more)
+        sets = {blown for blown in sets if may_go_on(board, story, moment, blown)}
+    return sets
+
+
+def is_plain_tale(board, story, tale):
+    """Whether the tale, a tuple of tuples of fuses, is one of the story."""
+    blown = ()
+    for moment, row in enumerate(tale):
+        on = lamps_on(story[:moment + 1])
+        for fuse in row:
+            if fuse not in strained_fuses(board, on, blown):
+                return False
+            blown += (fuse,)
+        if not may_go_on(board, story, moment, blown):
+            return False
+    return len(tale) == len(story)
+
+
+def some_tale(source, board, story):
+    """A tale of the story, one of the strained fuses blowing after another; always to an end behind a pause."""
+    tale, blown = [], ()
+    for moment in range(len(story)):
+        on = lamps_on(story[:moment + 1])
+        row = ()
+        hot = strained_fuses(board, on, blown)
+        while hot and (story[moment] == ("pause",) or source.random() < 0.3):
+            fuse = source.choice(hot)
+            row, blown = row + (fuse,), blown + (fuse,)
+            hot = strained_fuses(board, on, blown)
+        tale.append(row)
+    return tuple(tale)
+
+
+def is_quicker(speeds, first, second):
+    """Whether a row of pairs leads from the first fuse to the second one."""
+    return any(quick == first and (slow == second or is_quicker(speeds, slow, second)) for quick, slow in speeds)
+
+
+def all_orders_by(board, on, speeds):
+    """All orders in which fuses can blow by the speeds, at first nothing being blown."""
+    orders = [()]
+    for order in orders:
+        hot = strained_fuses(board, on, order)
+        for fuse in hot:
+            if not any(is_quicker(speeds, other, fuse) for other in hot):
+                orders.append(order + (fuse,))
+    return orders
+
+
+def some_speeds(source, fuse_count, greatest):
+    """Speeds of some pairs, at most so many, of so many fuses."""
+    row = source.sample(range(fuse_count), fuse_count)
+    pairs = list(itertools.combinations(row, 2))
+    return tuple(sorted(source.sample(pairs, source.randint(0, min(greatest, len(pairs))))))
+
+
+def small_boards(seed, count):
+    """So many pairs of a small board and lamps that are on."""
+    source = random.Random(seed)
+    for _ in range(count):
+        fuse_count = source.randint(1, 6)
+        yield some_board(source, fuse_count, source.randint(0, 6))
+
+
+# Each of these is one fuse or one lamp too great.
+GREAT_BOARDS = (
+    (chain(7), ()),
+    (star(7), ((0, 1),) * 6),
+    (chain(1), ((0, 1),) * 7),
+    (chain(6), ((5, 100),) * 7),
+    (chain(20), ((0, 1),) * 30),
+)

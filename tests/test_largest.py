@@ -1,21 +1,22 @@
-"""No call takes long, and what it tells is right, on boards of twenty fuses and thirty lamps: promises [1], [2]
-and [4] to [7]."""
+"""No call takes long, and what it tells is right, on boards of twenty fuses and thirty lamps, with stories of forty
+deeds, and on the greatest small boards: promises [1], [2] and [4] to [10]."""
 
 import collections
+import itertools
 import random
 import time
 import unittest
 
-from firstfuse import coming, ends, fates, loads
+from firstfuse import coming, ends, fates, finding, loads, speeds, stories
 from tests import plain
-from tests.plain import SHAPES, beside, marked, star
+from tests.plain import SHAPES, beside, chain, marked, star
 
 # A call takes some hundredths of a second; one that goes through all sets of fuses takes minutes.
 SECONDS = 5
 EVERY = tuple(range(30))
 
 
-class LargestTest(unittest.TestCase):
+class QuickCase(unittest.TestCase):
     def tell(self, function, *told):
         """What the function returns; it is to be quick, and to change nothing."""
         kept = repr(told)
@@ -25,6 +26,8 @@ class LargestTest(unittest.TestCase):
         self.assertEqual(kept, repr(told))
         return result
 
+
+class LargestTest(QuickCase):
     def check_loads(self, board, on, blown):
         carried = plain.all_loads(board, on, blown)
         self.assertEqual(carried, self.tell(loads.loads, board, on, blown))
@@ -108,6 +111,99 @@ class LargestTest(unittest.TestCase):
         for _ in range(60):
             board, on = plain.some_board(source, 20, 30)
             self.check(board, on)
+
+
+class StoriesTest(QuickCase):
+    def check_tale(self, board, story, tale):
+        """All functions are to go along with a tale of the story."""
+        self.assertIs(True, self.tell(stories.is_tale, board, story, tale), (board, story, tale))
+        at = {fuse: moment for moment, row in enumerate(tale) for fuse in row}
+        blown = tuple(sorted(at))
+        self.assertIs(True, self.tell(stories.can_have_come, board, story, blown))
+        earliest = self.tell(stories.moments, board, story, blown)
+        self.assertTrue(all(first <= at[fuse] for fuse, first in zip(blown, earliest)))
+        found = self.tell(stories.tale_for, board, story, blown)
+        self.assertTrue(plain.is_plain_tale(board, story, found))
+        self.assertEqual(earliest, tuple(m for f in blown for m, row in enumerate(found) if f in row))
+        self.assertIs(True, self.tell(stories.is_tale, board, story, found))
+
+    def check(self, source, board, story):
+        self.assertIsNone(self.tell(stories.story_error, board, story))
+        self.assertEqual(plain.lamps_on(story), self.tell(stories.on_after, board, story))
+        self.check_tale(board, story, plain.some_tale(source, board, story))
+        for blown in (tuple(range(20)), tuple(range(1, 20, 2)), (0,), ()):
+            told = self.tell(stories.moments, board, story, blown)
+            tale = self.tell(stories.tale_for, board, story, blown)
+            self.assertIs(told is None, tale is None)
+            self.assertIs(told is not None, self.tell(stories.can_have_come, board, story, blown))
+            if tale is not None:
+                self.check_tale(board, story, tale)
+
+    def test_drawn_stories(self):
+        source = random.Random(23)
+        for _ in range(60):
+            board, _ = plain.some_board(source, 20, 30)
+            self.check(source, board, plain.some_story(source, board, 40))
+
+    def test_all_shapes(self):
+        source = random.Random(24)
+        every = tuple(("on", lamp) for lamp in range(30))
+        for shape in SHAPES:
+            for mark in (0, 1, 50, 500):
+                for draw in (1, 100):
+                    board = (marked(shape(20), [mark] * 20), tuple((lamp % 20, draw) for lamp in range(30)))
+                    self.check(source, board, every + (("pause",),) * 10)
+                    self.check(source, board, every[::-1] + tuple(("off", lamp) for lamp in range(10)))
+
+    def test_a_row_that_blows_from_behind(self):
+        # Each fuse has a lamp of its own; those of the lower ones are put on last, in a pause for each.
+        board = (marked(chain(20), [0] * 20), tuple((fuse, 1) for fuse in range(20)))
+        story = tuple(deed for lamp in range(19, -1, -1) for deed in (("on", lamp), ("pause",)))
+        self.assertEqual(tuple(range(38, -1, -2)), self.tell(stories.moments, board, story, tuple(range(20))))
+        self.assertEqual((0,), self.tell(stories.moments, board, story, (0,)))
+        self.assertIsNone(self.tell(stories.moments, board, story, tuple(range(1, 20))))
+        self.check(random.Random(25), board, story)
+        # No sooner is there enough for the upper ones than all are on.
+        story = tuple(("on", lamp) for lamp in range(19, -1, -1)) + (("pause",),) * 20
+        self.assertEqual(tuple(range(19, -1, -1)), self.tell(stories.moments, board, story, tuple(range(20))))
+        self.assertEqual((19, 0), self.tell(stories.moments, board, story, (0,) + tuple(range(1, 20)))[::19])
+
+
+class SmallBoardsTest(QuickCase):
+    """The functions for small boards, on those of six fuses and six lamps."""
+
+    def test_finding(self):
+        every = tuple(("on", lamp) for lamp in range(6))
+        for shape in SHAPES:
+            for mark in (0, 1, 2):
+                board = (marked(shape(6), [mark] * 6), tuple((fuse, 1) for fuse in range(6)))
+                for story in (every[::-1] + every * 5 + every[:4], tuple(("off", 0) for _ in range(34)) + every):
+                    come = self.tell(finding.all_come, board, story)
+                    self.assertEqual(tuple(sorted(plain.all_blown(board, story))), come)
+                    for seen in ((), (0,), tuple(range(6))):
+                        fits = self.tell(finding.fitting, board, story, seen)
+                        looks = self.tell(finding.fewest_looks, board, story, seen)
+                        self.assertTrue(len(fits) <= 2 ** looks and looks <= 6)
+                        self.tell(finding.best_look, board, story, seen)
+                        self.tell(finding.surely_blown, board, story, seen)
+                        self.tell(finding.maybe_blown, board, story, seen)
+
+    def test_speeds(self):
+        every = tuple(range(6))
+        for shape in SHAPES:
+            for mark in (0, 1, 2, 5):
+                board = (marked(shape(6), [mark] * 6), tuple((fuse, 1) for fuse in range(6)))
+                for pairs in ((), tuple(itertools.combinations(every, 2)), tuple((f + 1, f) for f in range(5))):
+                    self.assertIsNone(self.tell(speeds.speeds_error, board, pairs))
+                    come = self.tell(speeds.come_by, board, every, pairs)
+                    self.assertTrue(set(self.tell(speeds.ends_by, board, every, pairs)) <= set(come))
+                    for blown in plain.subsets(every):
+                        order = self.tell(speeds.order_by, board, every, pairs, blown)
+                        self.assertIs(blown in come, order is not None)
+                        if order is not None:
+                            self.assertIs(True, self.tell(speeds.is_order_by, board, every, pairs, order))
+                    told = self.tell(speeds.is_guarded, board, pairs)
+                    self.assertIs(told, self.tell(speeds.unguarded, board, pairs) is None)
 
 
 class PartsTest(unittest.TestCase):

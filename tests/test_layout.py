@@ -57,6 +57,31 @@ INTERFACE = {
         "darkest": ["board", "on"],
         "least_beside": ["board", "on", "fuse"],
     },
+    "stories.py": {
+        "story_error": ["board", "value"],
+        "on_after": ["board", "story"],
+        "moments": ["board", "story", "blown"],
+        "can_have_come": ["board", "story", "value"],
+        "is_tale": ["board", "story", "value"],
+        "tale_for": ["board", "story", "blown"],
+    },
+    "finding.py": {
+        "all_come": ["board", "story"],
+        "fitting": ["board", "story", "seen"],
+        "surely_blown": ["board", "story", "seen"],
+        "maybe_blown": ["board", "story", "seen"],
+        "best_look": ["board", "story", "seen"],
+        "fewest_looks": ["board", "story", "seen"],
+    },
+    "speeds.py": {
+        "speeds_error": ["board", "value"],
+        "come_by": ["board", "on", "speeds"],
+        "ends_by": ["board", "on", "speeds"],
+        "is_order_by": ["board", "on", "speeds", "value"],
+        "order_by": ["board", "on", "speeds", "blown"],
+        "is_guarded": ["board", "speeds"],
+        "unguarded": ["board", "speeds"],
+    },
 }
 
 
