@@ -82,6 +82,46 @@ INTERFACE = {
         "is_guarded": ["board", "speeds"],
         "unguarded": ["board", "speeds"],
     },
+    "always.py": {
+        "never_blows": ["board"],
+        "steady": ["board"],
+        "lamps_for": ["board", "fuse"],
+        "is_safe": ["board", "on"],
+        "count_safe": ["board"],
+        "most_safe": ["board"],
+        "heaviest_safe": ["board"],
+        "least_marks": ["board", "lots"],
+    },
+    "alike.py": {
+        "outcomes": ["board", "on"],
+        "parting": ["board", "other"],
+        "spare": ["board"],
+    },
+    "texts.py": {
+        "board_text": ["board"],
+        "story_text": ["story"],
+        "read_board": ["value"],
+        "read_story": ["board", "value"],
+    },
+    "panels.py": {
+        "Panel": ["value"],
+    },
+}
+
+METHODS = {
+    "put_on": ["lamp"],
+    "put_off": ["lamp"],
+    "pause": [],
+    "blow": ["fuse"],
+    "undo": [],
+    "redo": [],
+    "lit": [],
+    "strained": [],
+    "is_dark": ["lamp"],
+    "twin": [],
+    "__len__": [],
+    "__eq__": ["other"],
+    "__str__": [],
 }
 
 
@@ -111,6 +151,13 @@ class LayoutTest(unittest.TestCase):
                 if isinstance(node, (ast.FunctionDef, ast.ClassDef))
             }
             self.assertEqual(listed, {word: defined[word] for word in listed}, name)
+
+    def test_each_method_is_defined_in_its_class(self):
+        panel = [node for node in ast.parse(text_of("panels.py")).body if isinstance(node, ast.ClassDef)][0]
+        self.assertEqual(("Panel", []), (panel.name, panel.bases))
+        defined = {node.name: arguments_of(node)[1:] for node in panel.body if isinstance(node, ast.FunctionDef)}
+        self.assertEqual(METHODS, {word: defined[word] for word in METHODS})
+        self.assertTrue({"board", "on", "blown", "story", "tale", "version"} < set(defined))
 
     def test_files(self):
         self.assertIn("__init__.py", source_names())
